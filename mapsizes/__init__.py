@@ -1,0 +1,1 @@
+"""Files cut and grown under maps, for all sizes and page sizes."""
