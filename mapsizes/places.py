@@ -47,6 +47,16 @@ def is_place(value):
     return True
 
 
+def is_list(value):
+    """Tells whether a value is a list, or the tuple that is accepted wherever a list is asked."""
+    return isinstance(value, (list, tuple))
+
+
+def unknowns_of(places):
+    """Returns the ascending list of the unknowns of Place objects."""
+    return sorted({place.base for place in places if place.base != ""})
+
+
 def _least_shift(base):
     return 0 if base == "" else -_MOST
 

@@ -1,13 +1,34 @@
 """Settings: a size for each unknown, and a page size."""
 
 from mapsizes.errors import InvalidInteger, InvalidPlace, InvalidSetting
-from mapsizes.places import Place, is_integer_from, is_name
+from mapsizes.places import Place, is_integer, is_integer_from, is_name
 
-_MOST_UNKNOWNS = 2
+MOST_UNKNOWNS = 2
+LEAST_LARGE_PAGE = 32
+
+
+def is_page_choice(value):
+    """Tells whether any value is a page size that is not large, or None, which stands for all large ones."""
+    return value is None or is_integer(value, 1, LEAST_LARGE_PAGE - 1)
+
+
+def has_page(setting, page):
+    """Tells whether a setting has the page size that is chosen, or a large one for None."""
+    return setting.page >= LEAST_LARGE_PAGE if page is None else setting.page == page
+
+
+def has_sizes(setting, unknowns):
+    """Tells whether a setting has sizes for all of these unknowns."""
+    return all([name in setting for name in unknowns])
+
+
+def are_too_many(unknowns, page):
+    """Tells whether there are more unknowns than a choice of a page size leaves room for."""
+    return len(unknowns) > (MOST_UNKNOWNS if page is None else 1)
 
 
 def _are_sizes(value):
-    if not isinstance(value, dict) or len(value) > _MOST_UNKNOWNS:
+    if not isinstance(value, dict) or len(value) > MOST_UNKNOWNS:
         return False
     return all([is_name(name) and is_integer_from(size, 0) for name, size in value.items()])
 
