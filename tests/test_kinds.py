@@ -122,6 +122,9 @@ class TestSameKind(Checks):
         self.refused(InvalidPlace, {"value": unknown}, same_kind, both, alone, ["n", 3, unknown, other])
         self.refused(InvalidPlace, {"value": unknown}, same_kind, alone, both, ("n", unknown, "m"))
         self.refused(InvalidPlace, {"value": other}, same_kind, both, both, [other, unknown])
+        for text in ["m", "m+1"]:
+            self.refused(InvalidPlace, {"value": text}, same_kind, alone, both, ["n", text, other])
+            self.refused(InvalidPlace, {"value": text}, same_kind, both, alone, ["n", text, other])
 
     def test_what_was_passed_stays(self):
         places = ["n", 3, Place("n")]
@@ -277,8 +280,9 @@ class TestCases(Checks):
             self.refused(InvalidSetting, {"value": value}, case_of, value, None, 0, page=0)
         facts = Facts(("at_most", 2, "n"), ("at_most", "n", "m+3"))
         for setting, page in [
-            (Setting({}), None), (Setting({"n": 2}), None), (Setting({"m": 2}), None), (Setting({"n": 1, "m": 9}), None),
-            (Setting({"n": 9, "m": 5}), None), (Setting({"n": 2, "m": 2}, page=31), None),
+            (Setting({}), None), (Setting({"n": 2}), None), (Setting({"m": 2}), None),
+            (Setting({"n": 1, "m": 9}), None), (Setting({"n": 9, "m": 5}), None),
+            (Setting({"n": 2, "m": 2}, page=31), None),
             (Setting({"n": 2, "m": 2}, page=1), None),
         ]:
             self.refused(InvalidSetting, {"value": setting}, case_of, setting, ["n"], facts, page=page)
@@ -287,4 +291,8 @@ class TestCases(Checks):
             (Setting({"n": 3}, page=4), 4), (Setting({"m": 4}, page=4), 4),
         ]:
             self.refused(InvalidSetting, {"value": setting}, case_of, setting, [], Facts(("page", "n")), page=page)
+        for sizes, places in [({}, ["n"]), ({"m": 4}, ["n", 0]), ({"n": 4}, ["n", "m"])]:
+            for known in (None, Facts(), Facts(("at_most", 0, 1))):
+                setting = Setting(sizes)
+                self.refused(InvalidSetting, {"value": setting}, case_of, setting, places, known)
         self.assertEqual(case_of(Setting({"n": 8}, page=4), [], Facts(("page", "n")), page=4)["n"] % 4, 0)

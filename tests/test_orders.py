@@ -123,7 +123,8 @@ class TestQuestions(Checks):
             self.assertIs(type(wanted), dict)
 
     def test_sixteen_rows_of_two_unknowns(self):
-        rows = [("at_most", one, other) for one in ("n+2", "n+3") for other in PLACES_OF_M] + [("page", "m"), ("page", 0)]
+        rows = [("at_most", one, other) for one in ("n+2", "n+3") for other in PLACES_OF_M]
+        rows += [("page", "m"), ("page", 0)]
         facts = Facts(*rows)
         self.assertEqual([set(orders("n+3", "m-3", facts)), set(orders("n", "m", facts))], [{"<", "="}, {"<"}])
         self.assertEqual([set(pages_apart("n+3", "m-3", facts)), set(pages_apart("n", "m", facts))],
@@ -146,7 +147,9 @@ class TestQuestions(Checks):
 
 class TestFollows(Checks):
     def test_against_all_small_settings(self):
-        asked = [("page", "n"), ("page", 0), ("page", 3), ("at_most", "n", "n+1"), ("at_most", 1, "n"), ("at_most", "n", 3)]
+        asked = [
+            ("page", "n"), ("page", 0), ("page", 3), ("at_most", "n", "n+1"), ("at_most", 1, "n"), ("at_most", "n", 3),
+        ]
         of_two = [("page", "m+1"), ("at_most", "n+1", "m"), ("at_most", "m-2", "n"), ("at_most", 1, "m")]
         for rows, page, _ in questions():
             two = unknowns_of(rows) == ["m", "n"]
