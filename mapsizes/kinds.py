@@ -33,15 +33,19 @@ def _ranks(numbers):
     return tuple([order[number] for number in numbers])
 
 
-def _kind_of(setting, places):
-    """Returns what is equal for two settings exactly if they are of one kind for these places."""
+def _kind(values, page):
+    """Returns what is equal for the values of places and 0 exactly if they lie alike, as [31] compares them."""
     # The ranks of the pages say no more than [31] compares. Two integers that lie ahead of places p and q are in
     # one page exactly if p and q are equal, or if p or q is in this page with both; and which of two pages comes
     # first shows in the order of p and q.
-    values = [setting[place] for place in places] + [0]
-    pages = [value // setting.page for value in values]
-    pages_ahead = [(value - 1) // setting.page for value in values]
+    pages = [value // page for value in values]
+    pages_ahead = [(value - 1) // page for value in values]
     return _ranks(values), _ranks(pages + pages_ahead)
+
+
+def kind_of(setting, places):
+    """Returns what is equal for two settings exactly if they are of one kind for these Place objects."""
+    return _kind([setting[place] for place in places] + [0], setting.page)
 
 
 def _lone_sizes(page):
@@ -58,17 +62,34 @@ def _size_pairs():
     return near + far
 
 
+def _page_size(page):
+    return LEAST_LARGE_PAGE if page is None else page
+
+
 def _samples(unknowns, page):
-    """Returns settings with the chosen page size, at least one of each kind, whatever the places of the unknowns."""
-    size = LEAST_LARGE_PAGE if page is None else page
+    """Returns sizes for the unknowns, in their order: at least one of each kind, whatever the places of these."""
     if unknowns == []:
-        return [Setting({}, page=size)]
+        return [()]
     if len(unknowns) == 1:
-        return [Setting({unknowns[0]: lone}, page=size) for lone in _lone_sizes(size)]
-    one, other = unknowns
+        return [(lone,) for lone in _lone_sizes(_page_size(page))]
     pairs = _size_pairs()
-    pairs = pairs + [(high, low) for low, high in pairs if low != high]
-    return [Setting({one: left, other: right}, page=size) for left, right in pairs]
+    return pairs + [(high, low) for low, high in pairs if low != high]
+
+
+def _sample_setting(unknowns, sizes, page):
+    return Setting({name: size for name, size in zip(unknowns, sizes)}, page=_page_size(page))
+
+
+def _kinds_of_samples(unknowns, places, page):
+    """Returns a dict from all kinds for these places to the first sample of each."""
+    # Numbers count from 0, which stands behind the sizes.
+    spots = [(unknowns.index(place.base) if place.base != "" else -1, place.shift) for place in places]
+    size, found = _page_size(page), {}
+    for sizes in _samples(unknowns, page):
+        starts = (*sizes, 0)
+        values = [starts[at] + shift for at, shift in spots]
+        found.setdefault(_kind([*values, 0], size), sizes)
+    return found
 
 
 def _all_places(places, facts):
@@ -98,7 +119,8 @@ def _placed(places):
 def settings_keeping(places, facts, page):
     """Returns settings that keep the facts, at least one of each kind; `places` is a list of Place objects."""
     _check_question(places, facts, page, places)
-    settings = _samples(unknowns_of(_all_places(places, facts)), page)
+    unknowns = unknowns_of(_all_places(places, facts))
+    settings = [_sample_setting(unknowns, sizes, page) for sizes in _samples(unknowns, page)]
     return settings if facts is None else [setting for setting in settings if facts.holds(setting)]
 
 
@@ -112,7 +134,7 @@ def same_kind(one, other, places):
         unknowns = unknowns_of([Place.of(item)])
         if not has_sizes(one, unknowns) or not has_sizes(other, unknowns):
             raise InvalidPlace(item)
-    return _kind_of(one, placed) == _kind_of(other, placed)
+    return kind_of(one, placed) == kind_of(other, placed)
 
 
 def cases(places, facts=None, *, page=None):
@@ -120,10 +142,10 @@ def cases(places, facts=None, *, page=None):
     placed = _placed(places)
     _check_question(placed, facts, page, places)
     compared = _all_places(placed, facts)
-    found = {}
-    for setting in _samples(unknowns_of(compared), page):
-        found.setdefault(_kind_of(setting, compared), setting)
-    return [setting for setting in list(found.values()) if facts is None or facts.holds(setting)]
+    unknowns = unknowns_of(compared)
+    found = list(_kinds_of_samples(unknowns, compared, page).values())
+    settings = [_sample_setting(unknowns, sizes, page) for sizes in found]
+    return [setting for setting in settings if facts is None or facts.holds(setting)]
 
 
 def case_of(setting, places, facts=None, *, page=None):
@@ -139,9 +161,5 @@ def case_of(setting, places, facts=None, *, page=None):
     if facts is not None and not facts.holds(setting):
         raise InvalidSetting(setting)
     # The first sample of a kind is its case, in `cases` too; it keeps the facts, because their places are compared.
-    wanted = _kind_of(setting, compared)
-    samples = _samples(unknowns, page)
-    at = 0
-    while _kind_of(samples[at], compared) != wanted:
-        at += 1
-    return samples[at]
+    sizes = _kinds_of_samples(unknowns, compared, page)[kind_of(setting, compared)]
+    return _sample_setting(unknowns, sizes, page)

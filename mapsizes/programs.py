@@ -1,6 +1,6 @@
 """Programs: the steps of some hands, the size of the file at the beginning, facts, and a page size."""
 
-from mapsizes.errors import InvalidFacts, InvalidHand, InvalidInteger, InvalidProgram, InvalidStep
+from mapsizes.errors import InvalidFacts, InvalidHand, InvalidInteger, InvalidProgram, InvalidSetting, InvalidStep
 from mapsizes.facts import Facts, places_of_rows
 from mapsizes.places import Place, is_integer, is_list, unknowns_of
 from mapsizes.settings import Setting, are_too_many, has_page, has_sizes, is_page_choice
@@ -35,12 +35,34 @@ def _check_hand(hand):
         raise InvalidHand(hand)
 
 
-def _different(places):
+def different_places(places):
     """Returns the different ones of some Place objects, in the order in which they appear."""
     found = {}
     for place in places:
         found.setdefault(str(place), place)
     return list(found.values())
+
+
+def with_places_of_facts(places, facts):
+    """Returns the different ones of some Place objects and of the places of facts."""
+    return different_places(places + places_of_rows(facts.rows()))
+
+
+def are_within_limits(places, page):
+    """Tells whether one program with a choice of a page size may have these different places, and their unknowns."""
+    return len(places) <= _MOST_PLACES and not are_too_many(unknowns_of(places), page)
+
+
+def check_program(value):
+    """Raises InvalidProgram for any value that is not a Program."""
+    if not isinstance(value, Program):
+        raise InvalidProgram(value)
+
+
+def check_setting(program, value):
+    """Raises InvalidSetting for any value that is not a setting of a program."""
+    if not program.allows(value):
+        raise InvalidSetting(value)
 
 
 class Program:
@@ -61,10 +83,10 @@ class Program:
         self._facts = Facts() if facts is None else facts
         self._page = page
         placed = [step for steps in self._hands for step in steps]
-        self._places = _different([start] + [place for step in placed for place in places_of_step(step)])
-        together = _different(self._places + places_of_rows(self._facts.rows()))
+        self._places = different_places([start] + [place for step in placed for place in places_of_step(step)])
+        together = with_places_of_facts(self._places, self._facts)
         self._unknowns = unknowns_of(together)
-        if len(together) > _MOST_PLACES or are_too_many(self._unknowns, page):
+        if not are_within_limits(together, page):
             raise InvalidProgram(hands)
 
     def hands(self):

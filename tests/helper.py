@@ -1,5 +1,6 @@
 """What the tests of all modules share."""
 
+import copy
 import unittest
 
 from mapsizes.facts import Facts
@@ -99,6 +100,14 @@ class PlainMachine:
         self.turns = [0 for _ in self.hands]
         self.over = [not hand for hand in self.hands]
         self.held = {}
+
+    def copied(self):
+        twin = copy.copy(self)
+        twin.file, twin.since = list(self.file), [list(row) for row in self.since]
+        twin.behind, twin.held = dict(self.behind), dict(self.held)
+        twin.answers = [list(row) for row in self.answers]
+        twin.turns, twin.over = list(self.turns), list(self.over)
+        return twin
 
     def value(self, text):
         return value_of(text, self.sizes)
@@ -219,6 +228,42 @@ class PlainMachine:
             tuple(tuple(self.kept(text)) for text in self.places),
             tuple(sorted(self.held.items())),
         )
+
+
+def all_runs(program, setting):
+    """All weavings, complete or not, each with a plain machine after it; as lists they ascend."""
+    left = [([], PlainMachine(program, setting))]
+    while left:
+        weaving, machine = left.pop()
+        yield weaving, machine
+        for hand in machine.ready()[::-1]:
+            twin = machine.copied()
+            twin.take(hand)
+            left.append(([*weaving, hand], twin))
+
+
+def complete_runs(program, setting, most=400):
+    """All complete weavings with plain machines after them, the least first, or None if there are too many runs."""
+    runs = [run for _, run in zip(range(most + 1), all_runs(program, setting))]
+    if len(runs) > most:
+        return None
+    complete = [(weaving, machine) for weaving, machine in runs if not machine.ready()]
+    return sorted(complete, key=lambda row: (len(row[0]), row[0]))
+
+
+def chosen_facts(chosen, two):
+    """Facts, mostly few; some bar one another, and some are about an unknown that a program need not have."""
+    texts = ["n", "n+1", "n-2", "0", "1", "3"] + (["m", "m+2", "m-1"] if two else [])
+    rows = [("at_most", chosen.choice(texts), chosen.choice(texts)) for _ in range(chosen.choice([0, 0, 1, 1, 2]))]
+    if chosen.randrange(4) == 0:
+        rows.append(("page", chosen.choice(texts)))
+    return Facts(*rows)
+
+
+def settings_around(program, chosen, count):
+    """Settings of a program at the begin of the file and at page ends, small ones and great ones."""
+    found = [chosen_setting(chosen, program, great=number % 2 == 1) for number in range(count)]
+    return [setting for setting in found if setting is not None]
 
 
 def chosen_hand(chosen, places, count):

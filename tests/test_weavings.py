@@ -1,6 +1,5 @@
 """[71] to [75] and what [9] says of them: all weavings at one setting."""
 
-import copy
 import random
 
 from mapsizes.errors import InvalidPattern, InvalidProgram, InvalidSetting
@@ -12,25 +11,13 @@ from mapsizes.programs import Program
 from mapsizes.settings import Setting
 from mapsizes.weavings import is_closed, is_pattern, outcomes_at, replay, shows, states_at, weavings
 from tests.helper import (
-    SIXTY_DIGITS, Checks, PlainMachine, any_values, chosen_program, chosen_setting, values_of_no_text,
+    SIXTY_DIGITS, Checks, all_runs, any_values, chosen_program, chosen_setting, values_of_no_text,
 )
 
 COUNTS = [(4,), (2, 2), (3, 2), (2, 1, 1), (0, 3), (2, 2, 1), (1, 0, 2)]
 PROGRAM = Program([[("cut", 1)], [("test", "n"), ("look", "n")]], first="n+1")
 FAR = Setting({"n": 40})
 NEAR = Setting({"n": 20})
-
-
-def all_runs(program, setting):
-    """All weavings, complete or not, each with a plain machine after it; as lists they ascend."""
-    left = [([], PlainMachine(program, setting))]
-    while left:
-        weaving, machine = left.pop()
-        yield weaving, machine
-        for hand in machine.ready()[::-1]:
-            twin = copy.deepcopy(machine)
-            twin.take(hand)
-            left.append(([*weaving, hand], twin))
 
 
 def some_programs(chosen, count):
