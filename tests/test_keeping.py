@@ -156,6 +156,23 @@ class TestKept(Checks):
             found = kept_lists(program, 0)
             self.assertEqual([(kept, weaving) for kept, _, weaving in found], [(("old", "y"), [0, 0, 1, 1])], last)
 
+            # As long as its last step is not done, the other hand waits.
+            hands = [[("lock", "a"), ("sync", 0, 1)], [("lock", "a"), ("store", 0, "x"), last]]
+            found = {kept: weaving for kept, _, weaving in kept_lists(Program(hands, first="n+1"), 0)}
+            self.assertEqual(found, {("old", "x"): [0, 0, 1, 1, 1], ("x",): [1, 1, 1, 0, 0]})
+
+    def test_turns_of_a_write_that_reach_several_places(self):
+        hands = [[("write", "n-1", "n+3", "x")], [("sync", "n", "n+1"), ("read", "n+1"), ("read", "n+2")]]
+        for page in (None, 2, 31):
+            program = Program(hands, first="n+3", page=page, facts=Facts(("page", "n"), ("at_most", 1, "n")))
+            for text in ("n-1", "n", "n+1", "n+2"):
+                found = {kept: weaving for kept, _, weaving in kept_lists(program, text)}
+                runs = complete_runs(program, cases_of(program)[0])
+                wanted = {}
+                for weaving, machine in runs:
+                    wanted.setdefault(tuple(machine.kept(text)), weaving)
+                self.assertEqual(found, wanted)
+
     def test_hands_that_wait_for_ever(self):
         a, b = ("lock", "a"), ("lock", "b")
         program = Program([[a, b, ("store", 0, "x")], [b, a]], first=1)

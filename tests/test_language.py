@@ -21,6 +21,10 @@ def nodes(path, *kinds):
     return [node for node in ast.walk(ast.parse(path.read_text())) if isinstance(node, kinds)]
 
 
+def nodes_below(node, *kinds):
+    return [found for found in ast.walk(node) if isinstance(found, kinds)]
+
+
 def module_of(path):
     return "mapsizes." + path.stem
 
@@ -35,6 +39,7 @@ def bound_names(path):
     """All names that a file binds, but for attributes and imports."""
     found = [node.id for node in nodes(path, ast.Name) if isinstance(node.ctx, ast.Store)]
     found += [node.arg for node in nodes(path, ast.arg)]
+    found += [node.name for node in nodes(path, ast.ExceptHandler) if node.name]
     methods = [item for node in nodes(path, ast.ClassDef) for item in node.body]
     names = [node.name for node in nodes(path, ast.FunctionDef, ast.ClassDef)]
     for method in methods:
@@ -125,6 +130,28 @@ class TestLanguage(unittest.TestCase):
             for node in nodes(path, ast.Compare):
                 if isinstance(node.ops[0], (ast.Is, ast.IsNot)):
                     self.assertIsInstance(node.comparators[0], ast.Constant, (path, node.lineno))
+
+    def test_stars_in_calls_stand_before_names(self):
+        for path in FILES:
+            for node in nodes(path, ast.Call):
+                for item in node.args:
+                    if isinstance(item, ast.Starred):
+                        self.assertIsInstance(item.value, (ast.Name, ast.Attribute), (path, node.lineno))
+                self.assertEqual([word.arg for word in node.keywords if word.arg is None], [], path)
+
+    def test_with_and_handlers(self):
+        for path in FILES:
+            for node in nodes(path, ast.With):
+                self.assertIsInstance(node.items[0].context_expr, ast.Call, (path, node.lineno))
+            for node in nodes(path, ast.ExceptHandler):
+                for name in nodes_below(node.type, ast.Name):
+                    self.assertNotIn(name.id, dir(builtins), (path, node.lineno))
+            for node in nodes(path, ast.Raise):
+                self.assertIsInstance(node.exc, ast.Call, (path, node.lineno))
+            for node in nodes(path, ast.FunctionDef):
+                if node.name == "__exit__":
+                    self.assertEqual({type(row) for row in node.body}, {ast.Assign}, path)
+                    self.assertEqual(nodes_below(node, ast.BinOp, ast.Compare, ast.Call), [], path)
 
     def test_strings_without_percent_signs(self):
         for path in FILES:

@@ -430,6 +430,10 @@ class TestErrors(Checks):
         settings = [value for value in any_values() if not isinstance(value, Setting)]
         for value in settings + [Setting({}), Setting({"m": 3}), Setting({"n": 4}), Setting({"n": 3}, page=31)]:
             self.refused(InvalidSetting, {"value": value}, case_for, SURE, value)
+        below = Program([[("cut", "n-2")]], first="n")
+        for size in (0, 1):
+            value = Setting({"n": size})
+            self.refused(InvalidSetting, {"value": value}, case_for, below, value)
 
     def test_patterns(self):
         rows = [(0, 0), (0, 0, "x", "y"), [0, 0, "x"], (2, 0, "x"), (0, 1, "x"), (-1, 0, "x"), (0, -1, "x"), None]
